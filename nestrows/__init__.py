@@ -1,0 +1,1 @@
+"""Nestrows: rows of rows made flat."""
