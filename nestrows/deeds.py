@@ -67,30 +67,32 @@ DEEDS = {
 }
 
 
-def fault_of(word, parts):
-    """The word of the fault that the deed would end in, None if it can be done."""
+def sizes_of(word, parts):
+    """How large the parts are: a number as it is, a row by its items, of flat by the items of these."""
+    if word == "flat":
+        return [sum([len(row) for row in parts[0]])]
+    return [len(part) if isinstance(part, tuple) else part for part in parts]
+
+
+def fault_of(word, sizes):
+    """The word of the fault that the deed would end in by the sizes of its parts, None if it can be done."""
     if word == "pick":
-        return None if parts[1] < len(parts[0]) else "beyond"
-    many = 0
-    if word == "upto":
-        many = parts[0]
-    elif word == "put":
-        many = len(parts[0]) + len(parts[1])
-    elif word == "flat":
-        many = sum([len(row) for row in parts[0]])
-    return None if many <= MOST_ITEMS else "many"
+        return None if sizes[1] < sizes[0] else "beyond"
+    if word in ("upto", "put", "flat") and sum(sizes) > MOST_ITEMS:
+        return "many"
+    return None
+
+
+def items_of(word, sizes):
+    """How many items that count as work the deed makes or adds, by the sizes of its parts."""
+    if word == "one":
+        return 1
+    if word in ("upto", "sum", "sums", "put", "flat"):
+        return sum(sizes)
+    return 0
 
 
 def deed_of(word, parts):
     """What the expression comes to; it must not fault."""
     deed = DEEDS[word]
     return deed(parts)
-
-
-def items_of(word, parts, worth):
-    """How many items the deed has made or added that count as work."""
-    if word == "sum":
-        return len(parts[0])
-    if word in ("upto", "sums", "one", "put", "flat"):
-        return len(worth)
-    return 0

@@ -18,6 +18,13 @@ class Node:
         self.depth = depth
 
 
+def parts_ahead(node):
+    """The parts that are done ahead of all else; the others are blocks, done as the node tells."""
+    if node.word in ("if", "let", "each", "where"):
+        return node.parts[:1]
+    return node.parts
+
+
 class Form:
     """A good function: names and depths of its params, and the node of its body."""
 

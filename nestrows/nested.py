@@ -1,16 +1,9 @@
 """Programs run element by element."""
 
-from nestrows.deeds import deed_of, fault_of, items_of
-from nestrows.forms import forms_of
+from nestrows.deeds import deed_of, fault_of, items_of, sizes_of
+from nestrows.forms import forms_of, parts_ahead
 from nestrows.limits import MOST_CALLS
 from nestrows.worths import refuse_bad_worths, refuse_no_function
-
-
-def parts_ahead(node):
-    """The parts that are done ahead of all else; the others are blocks, done as the node tells."""
-    if node.word in ("if", "let", "each", "where"):
-        return node.parts[:1]
-    return node.parts
 
 
 class Run:
@@ -115,11 +108,11 @@ class Run:
 
     def do_deed(self, node, parts):
         self.work += 1
-        word = fault_of(node.word, parts)
+        sizes = sizes_of(node.word, parts)
+        word = fault_of(node.word, sizes)
         if word is None:
-            worth = deed_of(node.word, parts)
-            self.work += items_of(node.word, parts, worth)
-            self.made.append(worth)
+            self.work += items_of(node.word, sizes)
+            self.made.append(deed_of(node.word, parts))
         else:
             self.fault = ("fault", word, node.function, node.place)
 
