@@ -175,6 +175,12 @@ class TakenIn(unittest.TestCase):
         self.assertEqual(self.row_of(("if", A, ("len", D), ("len", B)), 0)[4], (1, 3))
         self.assertEqual(self.row_of(("if", A, ("len", B), ("plus", ("len", B), A)), 0)[4], (0, 1))
 
+    def test_rising_over_many_registers(self):
+        # What this comes to is in register 8.
+        eight = ("plus", ("plus", num(1), num(2)), num(3))
+        self.assertEqual(self.row_of(("let", 6, eight, ("each", 5, B, ("pick", B, name(6)))), 1)[6], (1, 8))
+        self.assertEqual(self.row_of(("let", 6, eight, ("if", A, name(6), ("len", B))), 0)[4], (1, 8))
+
     def test_what_is_only_told(self):
         self.assertEqual(self.row_of(("each", 5, B, A), 1), ("each", 0, 5, 1, 1, 4, (0,), (), 0, 1))
         self.assertEqual(self.row_of(("where", 5, C, A), 2), ("where", 0, 5, 2, 2, 4, (0,), (), 0, 2))

@@ -7,7 +7,7 @@ from nestrows.errors import BadProgram, BadText
 from nestrows.notes import read, written
 from tests.helper import name, num, only, refused, spread, within
 
-# Each sort of expression, its depth, and how it is written; function 0 and names 0 to 3 are as in PROGRAM.
+# Each sort of expression, its depth, and how it is written, in a function behind AHEAD with params 3 and 17.
 SORTS = (
     (num(0), 0, "( num 0 )"),
     (num(10006), 0, "( num 10006 )"),

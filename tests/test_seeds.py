@@ -238,6 +238,17 @@ def registers(rows):
         yield row[2]
 
 
+def taken_in(rows):
+    """What the blocks of rows take in, those within blocks too."""
+    for row in rows:
+        if row[0] == "if":
+            yield row[4]
+            yield from taken_in(row[5] + row[7])
+        elif row[0] in ("each", "where"):
+            yield row[6]
+            yield from taken_in(row[7])
+
+
 class FromSeeds(unittest.TestCase):
     @classmethod
     def setUpClass(cls):
@@ -370,6 +381,12 @@ class FromSeeds(unittest.TestCase):
                 self.assertEqual(made, sorted(set(made)), case.shown)
                 items = str(body).count("('each'") + str(body).count("('where'")
                 self.assertEqual(max([*made, len(params) - 1]) + 1, len(params) + len(made) + items, case.shown)
+
+    def test_what_is_taken_in_rises(self):
+        for case in self.cases:
+            for rows, told in flat(case.program):
+                for taken in taken_in(rows):
+                    self.assertEqual(taken, tuple(sorted(set(taken))), case.shown)
 
     def test_what_is_written_is_read_to_the_same(self):
         for case in self.cases:
